@@ -1,0 +1,59 @@
+// Package machine is what programs run on: registers, a memory, and the instructions that work on them.
+package machine
+
+import "chains/api"
+
+// Machine is changed by instructions that are done, and by them alone: one that ends the run by a trap leaves it as it was.
+type Machine struct {
+	registers [32]uint32
+	memory    []byte
+	pc        uint32
+	next      uint32 // where the pc goes behind the instruction that is being done
+	brk       uint32
+	steps     int
+}
+
+// Check answers what is wrong with the setup, if anything is.
+func Check(s api.Setup) api.Errno {
+	switch {
+	case s.Pages < 1 || s.Pages > api.MaxPages:
+		return api.ErrPages
+	case !lies(uint64(s.Base), uint64(len(s.Image)), size(s.Pages)):
+		return api.ErrImage
+	case s.Fuel < 0 || s.Fuel > api.MaxFuel:
+		return api.ErrFuel
+	}
+	return api.OK
+}
+
+// New makes the machine as it is at first. The setup must be one that Check lets pass.
+func New(s api.Setup) *Machine {
+	m := &Machine{
+		memory: make([]byte, size(s.Pages)),
+		pc:     s.Entry,
+		brk:    s.Base + uint32(len(s.Image)),
+	}
+	copy(m.memory[s.Base:], s.Image)
+	return m
+}
+
+// Interpret does instructions one at a time, so many as the fuel lets, and answers how the run ended.
+func (m *Machine) Interpret(fuel int) api.Outcome {
+	return outcomeOf(func() {
+		for m.steps < fuel {
+			m.do(m.fetch())
+		}
+	})
+}
+
+// Report tells what has come of the run.
+func (m *Machine) Report(outcome api.Outcome) api.Report {
+	return api.Report{
+		Outcome: outcome,
+		PC:      m.pc,
+		Regs:    m.registers,
+		Break:   m.brk,
+		Memory:  string(m.memory),
+		Steps:   m.steps,
+	}
+}
