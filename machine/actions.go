@@ -5,8 +5,6 @@ import (
 	"chains/compute"
 )
 
-const answerRegister = 10 // where a call lays its answer
-
 // set leaves register 0 alone, for it is always 0.
 func (m *Machine) set(register int, number uint32) {
 	if register != 0 {
@@ -85,8 +83,5 @@ func (m *Machine) storeHalf(in api.Instr) { m.store(in, 2) }
 func (m *Machine) storeWord(in api.Instr) { m.store(in, 4) }
 
 func (m *Machine) nothing(api.Instr) {}
-
-// call knows no call yet, so each of them is one that is none.
-func (m *Machine) call(api.Instr) { m.set(answerRegister, api.NoSys) }
 
 func (m *Machine) stop(api.Instr) { end(api.Break) }

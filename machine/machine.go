@@ -3,13 +3,16 @@ package machine
 
 import "chains/api"
 
-// Machine is changed by instructions that are done, and by them alone: one that ends the run by a trap leaves it as it was.
+// Machine is changed by instructions that are done, and by them alone: one that ends the run and is not done leaves it as it was.
 type Machine struct {
 	registers [32]uint32
 	memory    []byte
 	pc        uint32
 	next      uint32 // where the pc goes behind the instruction that is being done
+	imageEnd  uint32
 	brk       uint32
+	answers   []string // those that no read has used up yet
+	events    []api.Event
 	steps     int
 }
 
@@ -28,10 +31,13 @@ func Check(s api.Setup) api.Errno {
 
 // New makes the machine as it is at first. The setup must be one that Check lets pass.
 func New(s api.Setup) *Machine {
+	imageEnd := s.Base + uint32(len(s.Image))
 	m := &Machine{
-		memory: make([]byte, size(s.Pages)),
-		pc:     s.Entry,
-		brk:    s.Base + uint32(len(s.Image)),
+		memory:   make([]byte, size(s.Pages)),
+		pc:       s.Entry,
+		imageEnd: imageEnd,
+		brk:      imageEnd,
+		answers:  s.Answers,
 	}
 	copy(m.memory[s.Base:], s.Image)
 	return m
@@ -54,6 +60,7 @@ func (m *Machine) Report(outcome api.Outcome) api.Report {
 		Regs:    m.registers,
 		Break:   m.brk,
 		Memory:  string(m.memory),
+		Events:  m.events,
 		Steps:   m.steps,
 	}
 }
