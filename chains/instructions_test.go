@@ -9,12 +9,14 @@ import (
 	"chains/chains"
 )
 
+// interpret holds Run to the same, so that whatever is asked of the one is asked of the other (P11).
 func interpret(t *testing.T, s api.Setup) api.Report {
 	t.Helper()
 	r, err := chains.Interpret(s)
 	if err != api.OK {
 		t.Fatalf("Interpret(%#v) has the error %d", s, err)
 	}
+	checkAlike(t, s, r)
 	return r
 }
 

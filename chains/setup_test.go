@@ -10,14 +10,35 @@ import (
 	"chains/chains"
 )
 
+// checkErrno asks both ways of running: the errors of Interpret are those of Run, ahead of its own.
 func checkErrno(t *testing.T, s api.Setup, want api.Errno) {
 	t.Helper()
 	r, err := chains.Interpret(s)
+	checkRefused(t, "Interpret", s, r, err, want)
+	s.Slots, s.Arena = 1, 8
+	checkRunErrno(t, s, want)
+	if want == api.OK {
+		want = api.ErrCache
+	}
+	s.Slots = 0
+	checkRunErrno(t, s, want)
+	s.Slots, s.Arena = 64, 257
+	checkRunErrno(t, s, want)
+}
+
+func checkRunErrno(t *testing.T, s api.Setup, want api.Errno) {
+	t.Helper()
+	r, err := chains.Run(s)
+	checkRefused(t, "Run", s, r, err, want)
+}
+
+func checkRefused(t *testing.T, name string, s api.Setup, r api.Report, err, want api.Errno) {
+	t.Helper()
 	if err != want {
-		t.Errorf("Interpret(%#v) has the error %d, want %d", s, err, want)
+		t.Errorf("%s(%#v) has the error %d, want %d", name, s, err, want)
 	}
 	if err != api.OK && !reflect.DeepEqual(r, api.Report{}) {
-		t.Errorf("Interpret(%#v) has %#v beside the error %d", s, r, err)
+		t.Errorf("%s(%#v) has %#v beside the error %d", name, s, r, err)
 	}
 }
 
@@ -76,6 +97,38 @@ func TestP5ErrorsInTheirOrder(t *testing.T) {
 	checkErrno(t, api.Setup{Pages: 8, Image: long, Fuel: 2001}, api.ErrImage)
 	checkErrno(t, api.Setup{Pages: 8, Base: 513, Fuel: -1}, api.ErrImage)
 	checkErrno(t, api.Setup{Pages: 8, Base: 512, Fuel: -1}, api.ErrFuel)
+}
+
+func TestP11Slots(t *testing.T) {
+	for slots := 1; slots <= 64; slots++ {
+		checkRunErrno(t, api.Setup{Pages: 1, Slots: slots, Arena: 8}, api.OK)
+	}
+	for _, slots := range []int{math.MinInt, -64, -1, 0, 65, 66, 256, 1<<32 + 1, math.MaxInt} {
+		checkRunErrno(t, api.Setup{Pages: 1, Slots: slots, Arena: 8}, api.ErrCache)
+		checkRunErrno(t, api.Setup{Pages: 1, Slots: slots, Arena: 256}, api.ErrCache)
+	}
+}
+
+func TestP11Arena(t *testing.T) {
+	for arena := 8; arena <= 256; arena++ {
+		checkRunErrno(t, api.Setup{Pages: 1, Slots: 64, Arena: arena}, api.OK)
+	}
+	for _, arena := range []int{math.MinInt, -8, -1, 0, 1, 7, 257, 258, 1<<32 + 8, math.MaxInt} {
+		checkRunErrno(t, api.Setup{Pages: 1, Slots: 1, Arena: arena}, api.ErrCache)
+		checkRunErrno(t, api.Setup{Pages: 1, Slots: 64, Arena: arena}, api.ErrCache)
+		checkRunErrno(t, api.Setup{Pages: 1, Slots: 0, Arena: arena}, api.ErrCache)
+		checkRunErrno(t, api.Setup{Pages: 1, Slots: 65, Arena: arena}, api.ErrCache)
+	}
+}
+
+func TestP11ErrorsInTheirOrder(t *testing.T) {
+	for _, cache := range [][2]int{{0, 8}, {1, 7}, {0, 0}, {65, 257}, {math.MinInt, math.MaxInt}} {
+		slots, arena := cache[0], cache[1]
+		checkRunErrno(t, api.Setup{Pages: 0, Image: "x", Fuel: -1, Slots: slots, Arena: arena}, api.ErrPages)
+		checkRunErrno(t, api.Setup{Pages: 1, Base: 64, Image: "x", Fuel: -1, Slots: slots, Arena: arena}, api.ErrImage)
+		checkRunErrno(t, api.Setup{Pages: 1, Fuel: 2001, Slots: slots, Arena: arena}, api.ErrFuel)
+		checkRunErrno(t, api.Setup{Pages: 1, Fuel: 2000, Slots: slots, Arena: arena}, api.ErrCache)
+	}
 }
 
 func TestP5SlotsAndArenaDoNotMatter(t *testing.T) {

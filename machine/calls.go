@@ -42,8 +42,10 @@ func (m *Machine) callRead() {
 		m.set(answerRegister, api.Fault)
 		return
 	}
-	read := copy(room, m.nextAnswer())
-	m.answerBytes(api.CallRead, room[:read])
+	answer := m.nextAnswer()
+	bytes := []byte(answer[:min(len(answer), len(room))])
+	m.put(m.registers[addressRegister], bytes)
+	m.answerBytes(api.CallRead, bytes)
 }
 
 // callBrk holds the number against the image's end, not against the break, so that the break may go back.

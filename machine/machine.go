@@ -14,20 +14,34 @@ type Machine struct {
 	answers   []string // those that no read has used up yet
 	events    []api.Event
 	steps     int
+	cache     cache
 }
 
 // Check answers what is wrong with the setup, if anything is.
 func Check(s api.Setup) api.Errno {
 	switch {
-	case s.Pages < 1 || s.Pages > api.MaxPages:
+	case !within(s.Pages, 1, api.MaxPages):
 		return api.ErrPages
 	case !lies(uint64(s.Base), uint64(len(s.Image)), size(s.Pages)):
 		return api.ErrImage
-	case s.Fuel < 0 || s.Fuel > api.MaxFuel:
+	case !within(s.Fuel, 0, api.MaxFuel):
 		return api.ErrFuel
 	}
 	return api.OK
 }
+
+// CheckBlocks does so for a run in blocks.
+func CheckBlocks(s api.Setup) api.Errno {
+	if err := Check(s); err != api.OK {
+		return err
+	}
+	if !within(s.Slots, 1, api.MaxSlots) || !within(s.Arena, api.MaxBlock, api.MaxArena) {
+		return api.ErrCache
+	}
+	return api.OK
+}
+
+func within(number, least, most int) bool { return number == max(least, min(number, most)) }
 
 // New makes the machine as it is at first. The setup must be one that Check lets pass.
 func New(s api.Setup) *Machine {
@@ -62,5 +76,6 @@ func (m *Machine) Report(outcome api.Outcome) api.Report {
 		Memory:  string(m.memory),
 		Events:  m.events,
 		Steps:   m.steps,
+		Built:   m.cache.built,
 	}
 }

@@ -29,5 +29,11 @@ func (m *Machine) read(address, width uint32) uint32 {
 // write puts the lowest bytes of the number, up to four, to the address. They must lie in the memory.
 func (m *Machine) write(address, width, number uint32) {
 	bytes := [4]byte{byte(number), byte(number >> 8), byte(number >> 16), byte(number >> 24)}
-	copy(m.memory[address:], bytes[:width])
+	m.put(address, bytes[:width])
+}
+
+// put is the only way by which instructions write, so that no block outlives what it was made from.
+func (m *Machine) put(address uint32, bytes []byte) {
+	copy(m.memory[address:], bytes)
+	m.cache.forget(address, address+uint32(len(bytes)))
 }

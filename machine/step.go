@@ -14,11 +14,20 @@ type step struct {
 // fetch makes the instruction at the pc ready, or ends the run, if there is none.
 func (m *Machine) fetch() step {
 	m.guard(m.pc, 4, api.FetchAlign, api.FetchFault)
-	in, ok := decode.Word(m.read(m.pc, 4))
+	s, ok := m.ready(m.pc)
 	if !ok {
 		end(api.Illegal)
 	}
-	return step{actionOf(in.Op), in}
+	return s
+}
+
+// ready makes the instruction at the address ready, if there is one. The word must lie in the memory.
+func (m *Machine) ready(address uint32) (step, bool) {
+	in, ok := decode.Word(m.read(address, 4))
+	if !ok {
+		return step{}, false
+	}
+	return step{actionOf(in.Op), in}, true
 }
 
 // do moves the pc and counts only behind the action, for an action that ends the run is not done.
