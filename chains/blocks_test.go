@@ -51,6 +51,19 @@ func checkBuilt(t *testing.T, s api.Setup, want ...uint32) {
 	if got := builtAt(t, s); !slices.Equal(got, want) {
 		t.Errorf("%d slots, arena %d: built at %d, want %d", s.Slots, s.Arena, got, want)
 	}
+	checkBuiltOften(t, s, want)
+}
+
+// checkBuiltOften holds Profile against the addresses of the blocks that are built, whatever their order.
+func checkBuiltOften(t *testing.T, s api.Setup, built []uint32) {
+	t.Helper()
+	var got []uint32
+	for _, b := range profile(t, s) {
+		got = append(got, slices.Repeat([]uint32{b.PC}, b.Built)...)
+	}
+	if want := slices.Sorted(slices.Values(built)); !slices.Equal(got, want) {
+		t.Errorf("%d slots, arena %d: Profile tells of blocks built at %d, want %d", s.Slots, s.Arena, got, want)
+	}
 }
 
 func TestP12Example(t *testing.T) {

@@ -1,6 +1,8 @@
 package chains_test
 
 import (
+	"maps"
+	"slices"
 	"testing"
 
 	"chains/api"
@@ -141,6 +143,10 @@ func (m *model) built() int {
 	return sum
 }
 
+func (m *model) list() []api.Block {
+	return slices.SortedFunc(maps.Values(m.blocks), func(a, b api.Block) int { return int(a.PC) - int(b.PC) })
+}
+
 // dice are thrown alike in each run of the tests.
 type dice struct{ seed uint64 }
 
@@ -198,7 +204,7 @@ func (d *dice) program() api.Setup {
 	return s
 }
 
-func TestP12P13P14AgainstAModel(t *testing.T) {
+func TestP12P13P14P15AgainstAModel(t *testing.T) {
 	var d dice
 	var all model
 	outcomes := map[api.Outcome]int{}
@@ -212,6 +218,7 @@ func TestP12P13P14AgainstAModel(t *testing.T) {
 			if got := run(t, s).Built; got != m.built() {
 				t.Fatalf("Run(%#v) builds %d blocks, want %d", s, got, m.built())
 			}
+			checkProfile(t, s, m.list()...)
 			all.clears, all.driven, all.forgot, all.cut = all.clears+m.clears, all.driven+m.driven, all.forgot+m.forgot, all.cut+m.cut
 			all.entered += m.entered - m.built() // those that were not built for it
 		}

@@ -10,7 +10,7 @@ import (
 	"chains/chains"
 )
 
-// checkErrno asks both ways of running: the errors of Interpret are those of Run, ahead of its own.
+// checkErrno asks both ways of running: the errors of Interpret are those of Run and Profile, ahead of their own.
 func checkErrno(t *testing.T, s api.Setup, want api.Errno) {
 	t.Helper()
 	r, err := chains.Interpret(s)
@@ -30,6 +30,19 @@ func checkRunErrno(t *testing.T, s api.Setup, want api.Errno) {
 	t.Helper()
 	r, err := chains.Run(s)
 	checkRefused(t, "Run", s, r, err, want)
+	checkProfileErrno(t, s, want)
+}
+
+// Where a run in blocks is refused, so is what would be told of it.
+func checkProfileErrno(t *testing.T, s api.Setup, want api.Errno) {
+	t.Helper()
+	blocks, err := chains.Profile(s)
+	if err != want {
+		t.Errorf("Profile(%#v) has the error %d, want %d", s, err, want)
+	}
+	if err != api.OK && len(blocks) != 0 {
+		t.Errorf("Profile(%#v) has %v beside the error %d", s, blocks, err)
+	}
 }
 
 func checkRefused(t *testing.T, name string, s api.Setup, r api.Report, err, want api.Errno) {

@@ -22,13 +22,15 @@ blocks:
 	}
 }
 
-// find answers the block at the pc, or ends the run, if no instruction stands there. One that is kept need not be decoded: it would not be there, had its page been written into.
+// find answers the block at the pc, which is then entered, or ends the run, if no instruction stands there. One that is kept need not be decoded: it would not be there, had its page been written into.
 func (m *Machine) find() block {
 	m.guard(m.pc, 4, api.FetchAlign, api.FetchFault)
 	if !m.cache.has(m.pc) {
 		m.cache.keep(m.build())
 	}
-	return *m.cache.slot(m.pc)
+	b := *m.cache.slot(m.pc)
+	m.cache.profile.countEntered(b)
+	return b
 }
 
 // build makes the block at the pc, whose word must lie in the memory, or ends the run, if that is no instruction.

@@ -16,14 +16,14 @@ func (b block) pageHas(from, to uint32) bool {
 
 // cache keeps blocks, so that they are not made ready again. That of a run one by one has no slots.
 type cache struct {
-	slots []block
-	arena int
-	taken int // by all blocks since the last clearing, also by those that were forgotten
-	built int
+	slots   []block
+	arena   int
+	taken   int // by all blocks since the last clearing, also by those that were forgotten
+	profile profile
 }
 
 func newCache(slots, arena int) cache {
-	return cache{slots: make([]block, slots), arena: arena}
+	return cache{slots: make([]block, slots), arena: arena, profile: profile{}}
 }
 
 func (c *cache) slot(address uint32) *block {
@@ -42,7 +42,7 @@ func (c *cache) keep(b block) {
 		c.taken = 0
 	}
 	c.taken += len(b.steps)
-	c.built++
+	c.profile.countBuilt(b)
 	*c.slot(b.address) = b
 }
 

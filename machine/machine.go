@@ -76,6 +76,9 @@ func (m *Machine) Report(outcome api.Outcome) api.Report {
 		Memory:  string(m.memory),
 		Events:  m.events,
 		Steps:   m.steps,
-		Built:   m.cache.built,
+		Built:   m.cache.profile.built(),
 	}
 }
+
+// Profile tells of the blocks of the run, in the order of their addresses.
+func (m *Machine) Profile() []api.Block { return m.cache.profile.list() }
